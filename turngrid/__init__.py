@@ -1,0 +1,1 @@
+"""Turngrid: turns of space and the points that two grids share."""
