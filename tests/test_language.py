@@ -123,6 +123,36 @@ class LanguageTest(unittest.TestCase):
             if node.attr in PYTHON_METHODS:
                 self.assertIn(node.attr, METHODS | set(DUNDERS), where)
 
+    def test_each_name_once_at_a_files_top(self):
+        for file, tree in self.trees.items():
+            bound = [part.name for part in tree.body if hasattr(part, "name")]
+            bound += [alias.name for part in tree.body if isinstance(part, ast.ImportFrom) for alias in part.names]
+            bound += [part.targets[0].id for part in tree.body if isinstance(part, ast.Assign)]
+            self.assertEqual(len(bound), len(set(bound)), (file, bound))
+
+    def test_no_local_is_called_like_a_name_of_its_files_top(self):
+        for file, tree in self.trees.items():
+            top = {part.name for part in tree.body if hasattr(part, "name")}
+            top |= {alias.name for part in tree.body if isinstance(part, ast.ImportFrom) for alias in part.names}
+            for part in tree.body:
+                if isinstance(part, ast.FunctionDef):
+                    self.assertEqual((set(bound_names(part)) - {part.name}) & top, set(), (file, part.name))
+
+    def test_no_two_files_draw_from_one_another(self):
+        draws = {}
+        for file, tree in self.trees.items():
+            modules = [part.module for part in tree.body if isinstance(part, ast.ImportFrom)]
+            draws[file] = {module.split(".")[1] + ".py" for module in modules}
+        while draws:
+            done = [file for file in draws if not draws[file] & set(draws)]
+            self.assertNotEqual(done, [], draws)
+            draws = {file: draws[file] for file in draws if file not in done}
+
+    def test_what_a_loop_walks_is_walked_on_the_spot(self):
+        for where, node in self.nodes(ast.Assign):
+            if isinstance(node.value, ast.Call) and isinstance(node.value.func, ast.Name):
+                self.assertNotIn(node.value.func.id, ("zip", "enumerate", "reversed", "range"), where)
+
     def test_is_stands_beside_none_and_truths(self):
         for where, node in self.nodes(ast.Compare):
             for sign, right in zip(node.ops, node.comparators):

@@ -1,6 +1,7 @@
 """Quads: the product, the mirrored quad, the size, the plain quad."""
 
 from turngrid.errors import NoQuad
+from turngrid.rows import row_over, row_times
 from turngrid.wholes import divisor
 
 
@@ -18,7 +19,7 @@ def mirrored(quad):
 
 
 def size(quad):
-    return sum([number * number for number in quad])
+    return row_times(quad, quad)
 
 
 def plain(quad):
@@ -27,7 +28,7 @@ def plain(quad):
         raise NoQuad("the quad of four noughts has no plain quad")
     if leads_below_nought(quad):
         shrink = -shrink
-    return tuple([number // shrink for number in quad])
+    return row_over(quad, shrink)
 
 
 def leads_below_nought(quad):

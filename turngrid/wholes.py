@@ -1,5 +1,7 @@
 """Whole numbers: the divisor, the odd part, the makings, the primes."""
 
+from turngrid.rows import row_less
+
 
 def is_whole(thing):
     # Python counts True and False as ints; the document doesn't.
@@ -38,10 +40,6 @@ def makings(one, other):
     if row[0] < 0:
         return (-row[0], -row[1], -row[2])
     return row
-
-
-def row_less(row, taken, times):
-    return (row[0] - times * taken[0], row[1] - times * taken[1], row[2] - times * taken[2])
 
 
 def primes_of(n):

@@ -1,0 +1,69 @@
+"""Points [2] and [3]: what is handed in is the same behind each call, and so is the answer when asked again."""
+
+import copy
+import unittest
+
+from turngrid import fours, quads, stairs, stones, turns, wholes
+
+QUAD = (3, -1, 4, 10 ** 30 + 1)
+TURN = (((2, -1, 2), (2, 2, -1), (-1, 2, 2)), 3)
+OTHER_TURN = (((5, 0, 0), (0, 3, -4), (0, 4, 3)), 5)
+POINT = (4, 5, 11)
+STAIR = [(2, 1, 3), (0, 3, 2), (0, 0, 4)]
+POINTS = [(1, 5, -5), (0, 0, 0), (0, 3, 7), (1, 5, -5), (0, 0, -4)]
+STONES = ((3, -1, 5, 7), (4, 0, -2, 6))
+CALLS = [
+    (wholes.divisor, [12, -18, 0]),
+    (wholes.makings, 12, -18),
+    (wholes.primes_of, 360),
+    (quads.product, QUAD, QUAD),
+    (quads.mirrored, QUAD),
+    (quads.plain, QUAD),
+    (quads.size, QUAD),
+    (turns.turn_of, QUAD),
+    (turns.quad_of, TURN),
+    (turns.is_turn, TURN),
+    (turns.is_turn, (((2, 0, 0), (0, 2, 0), (0, 0, 2)), 2)),
+    (turns.after, TURN, OTHER_TURN),
+    (turns.back, TURN),
+    (turns.moved, TURN, POINT),
+    (turns.cube_turns,),
+    (stones.stone_product,) + STONES,
+    (stones.weight, STONES[0]),
+    (stones.divided,) + STONES,
+    (stones.common,) + STONES,
+    (fours.four_squares, 9999),
+    (stairs.stair_of, POINTS),
+    (stairs.stair_of, STAIR),
+    (stairs.share, STAIR),
+    (stairs.counts, STAIR, POINT),
+    (stairs.counts, STAIR, (1, 0, 0)),
+]
+
+
+class HandedInTest(unittest.TestCase):
+    def test_the_same_behind_each_call(self):
+        for call in CALLS:
+            handed = copy.deepcopy(call[1:])
+            call[0](*handed)
+            self.assertEqual(handed, call[1:], call[0].__name__)
+
+    def test_the_same_answer_when_asked_again(self):
+        first = [call[0](*copy.deepcopy(call[1:])) for call in CALLS]
+        second = [call[0](*copy.deepcopy(call[1:])) for call in CALLS[::-1]]
+        self.assertEqual(first, second[::-1])
+
+    def test_a_list_that_was_told_is_the_askers_own(self):
+        for call in CALLS:
+            answer = call[0](*call[1:])
+            if isinstance(answer, list):
+                kept = list(answer)
+                answer.append(None)
+                self.assertEqual(call[0](*call[1:]), kept, call[0].__name__)
+                self.assertNotIn(None, call[1:])
+        self.assertEqual(STAIR, [(2, 1, 3), (0, 3, 2), (0, 0, 4)])
+        self.assertEqual(len(POINTS), 5)
+
+
+if __name__ == "__main__":
+    unittest.main()
