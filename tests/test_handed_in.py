@@ -3,13 +3,15 @@
 import copy
 import unittest
 
-from turngrid import fours, quads, stairs, stones, turns, wholes
+from turngrid import dials, fours, grids, quads, shared, stairs, stones, turns, wholes
 
 QUAD = (3, -1, 4, 10 ** 30 + 1)
 TURN = (((2, -1, 2), (2, 2, -1), (-1, 2, 2)), 3)
 OTHER_TURN = (((5, 0, 0), (0, 3, -4), (0, 4, 3)), 5)
 POINT = (4, 5, 11)
 STAIR = [(2, 1, 3), (0, 3, 2), (0, 0, 4)]
+OTHER_STAIR = [(3, 1, 1), (0, 2, 1), (0, 0, 2)]
+DIAL = ((-1, 5, 22), 15)
 POINTS = [(1, 5, -5), (0, 0, 0), (0, 3, 7), (1, 5, -5), (0, 0, -4)]
 STONES = ((3, -1, 5, 7), (4, 0, -2, 6))
 CALLS = [
@@ -38,6 +40,17 @@ CALLS = [
     (stairs.share, STAIR),
     (stairs.counts, STAIR, POINT),
     (stairs.counts, STAIR, (1, 0, 0)),
+    (grids.joined, STAIR, OTHER_STAIR),
+    (grids.joined, STAIR, STAIR),
+    (grids.met, STAIR, OTHER_STAIR),
+    (grids.met, STAIR, STAIR),
+    (dials.says, DIAL, POINT),
+    (dials.dial_stair, DIAL),
+    (dials.turn_of_dial, DIAL),
+    (shared.is_shared, TURN, POINT),
+    (shared.shared_stair, TURN),
+    (shared.dial_of, TURN),
+    (shared.share_alike, TURN, OTHER_TURN),
 ]
 
 
@@ -62,6 +75,7 @@ class HandedInTest(unittest.TestCase):
                 self.assertEqual(call[0](*call[1:]), kept, call[0].__name__)
                 self.assertNotIn(None, call[1:])
         self.assertEqual(STAIR, [(2, 1, 3), (0, 3, 2), (0, 0, 4)])
+        self.assertEqual(OTHER_STAIR, [(3, 1, 1), (0, 2, 1), (0, 0, 2)])
         self.assertEqual(len(POINTS), 5)
 
 

@@ -1,11 +1,10 @@
 """Point [7]: quads."""
 
-import inspect
 import itertools
 import math
 import unittest
 
-from turngrid import errors, quads
+from turngrid import errors
 from turngrid.quads import mirrored, plain, product, size
 
 LARGE = 10 ** 300 - 1
@@ -34,14 +33,6 @@ class QuadsTest(unittest.TestCase):
         self.assertIs(type(found), tuple)
         self.assertEqual([type(number) for number in found], [int] * 4)
         self.assertEqual(found, answer)
-
-
-class InterfaceTest(unittest.TestCase):
-    def test_names_and_arguments(self):
-        told = {"product": ["one", "other"], "mirrored": ["quad"], "plain": ["quad"], "size": ["quad"]}
-        for name, arguments in told.items():
-            found = list(inspect.signature(getattr(quads, name)).parameters)
-            self.assertEqual(found, arguments, name)
 
 
 class ProductTest(QuadsTest):

