@@ -26,6 +26,14 @@ def led(table, spot):
     return [sum(number * coordinate for number, coordinate in zip(row, spot)) for row in table]
 
 
+def after_by_the_tables(one, other):
+    columns = list(zip(*other[0]))
+    rows = [[dot(row, column) for column in columns] for row in one[0]]
+    bottom = one[1] * other[1]
+    shrink = math.gcd(bottom, *rows[0], *rows[1], *rows[2])
+    return tuple(tuple(number // shrink for number in row) for row in rows), bottom // shrink
+
+
 def is_turn_by_the_sentence(thing):
     rows, bottom = thing
     return (

@@ -3,11 +3,13 @@
 import copy
 import unittest
 
-from turngrid import dials, fours, grids, quads, shared, stairs, stones, turns, wholes
+from turngrid import dials, fours, grids, lists, parting, quads, shared, stairs, stones, turns, ways, wholes
+from turngrid.desk import Desk
 
 QUAD = (3, -1, 4, 10 ** 30 + 1)
 TURN = (((2, -1, 2), (2, 2, -1), (-1, 2, 2)), 3)
 OTHER_TURN = (((5, 0, 0), (0, 3, -4), (0, 4, 3)), 5)
+LEAVES_ALL = (((1, 0, 0), (0, 1, 0), (0, 0, 1)), 1)
 POINT = (4, 5, 11)
 STAIR = [(2, 1, 3), (0, 3, 2), (0, 0, 4)]
 OTHER_STAIR = [(3, 1, 1), (0, 2, 1), (0, 0, 2)]
@@ -51,7 +53,29 @@ CALLS = [
     (shared.shared_stair, TURN),
     (shared.dial_of, TURN),
     (shared.share_alike, TURN, OTHER_TURN),
+    (parting.parted, TURN, [3]),
+    (parting.parted, OTHER_TURN, [1, 5, 1]),
+    (parting.parted, LEAVES_ALL, []),
+    (ways.bringing, POINT, (-5, 11, 4)),
+    (ways.bringing, POINT, (-4, -5, -11)),
+    (ways.half_turns, TURN),
+    (ways.half_turns, LEAVES_ALL),
+    (ways.order, TURN),
+    (ways.order, OTHER_TURN),
+    (lists.shared_grids, 1),
+    (lists.shared_grids, 2),
+    (lists.shared_grids, 45),
+    (lists.how_many, 999999),
 ]
+ROWS = ["turn a 2,1,0,0", "back b a", "after c a b", "quad c", "stair a", "move a 1,2,3", "drop c", "same a b"]
+
+
+def spoil(answer):
+    # The lists within are the asker's own as well.
+    for part in answer:
+        if isinstance(part, tuple) and isinstance(part[0], list):
+            part[0].append(None)
+    answer.append(None)
 
 
 class HandedInTest(unittest.TestCase):
@@ -70,13 +94,20 @@ class HandedInTest(unittest.TestCase):
         for call in CALLS:
             answer = call[0](*call[1:])
             if isinstance(answer, list):
-                kept = list(answer)
-                answer.append(None)
+                kept = copy.deepcopy(answer)
+                spoil(answer)
                 self.assertEqual(call[0](*call[1:]), kept, call[0].__name__)
                 self.assertNotIn(None, call[1:])
         self.assertEqual(STAIR, [(2, 1, 3), (0, 3, 2), (0, 0, 4)])
         self.assertEqual(OTHER_STAIR, [(3, 1, 1), (0, 2, 1), (0, 0, 2)])
         self.assertEqual(len(POINTS), 5)
+
+    def test_the_same_answers_of_each_desk(self):
+        first = Desk()
+        told = [first.say(row) for row in ROWS]
+        second = Desk()
+        self.assertEqual([second.say(row) for row in ROWS], told)
+        self.assertEqual([first.say(row) for row in ROWS], told)
 
 
 if __name__ == "__main__":

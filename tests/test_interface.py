@@ -4,6 +4,8 @@ import importlib
 import inspect
 import unittest
 
+from turngrid.desk import Desk
+
 TOLD = {
     "wholes": {
         "is_whole": ["thing"],
@@ -33,6 +35,10 @@ TOLD = {
         "dial_of": ["turn"],
         "share_alike": ["one", "other"],
     },
+    "parting": {"parted": ["turn", "sizes"]},
+    "ways": {"bringing": ["one", "other"], "half_turns": ["turn"], "order": ["turn"]},
+    "lists": {"shared_grids": ["m"], "how_many": ["m"]},
+    "desk": {"Desk": []},
 }
 
 
@@ -43,6 +49,10 @@ class InterfaceTest(unittest.TestCase):
             for name, arguments in names.items():
                 found = list(inspect.signature(getattr(held, name)).parameters)
                 self.assertEqual(found, arguments, (module, name))
+
+    def test_the_desk(self):
+        self.assertIs(type(Desk), type)
+        self.assertEqual(list(inspect.signature(Desk().say).parameters), ["row"])
 
 
 if __name__ == "__main__":

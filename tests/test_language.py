@@ -134,7 +134,7 @@ class LanguageTest(unittest.TestCase):
         for file, tree in self.trees.items():
             top = {part.name for part in tree.body if hasattr(part, "name")}
             top |= {alias.name for part in tree.body if isinstance(part, ast.ImportFrom) for alias in part.names}
-            for part in tree.body:
+            for part in ast.walk(tree):
                 if isinstance(part, ast.FunctionDef):
                     self.assertEqual((set(bound_names(part)) - {part.name}) & top, set(), (file, part.name))
 

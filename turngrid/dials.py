@@ -30,8 +30,14 @@ def dial_stair(dial):
 def turn_of_dial(dial):
     w = dial[0]
     m = dial[1]
-    if m % 2 == 0 or row_times(w, w) % m != 0 or divisor(w + (m,)) != 1:
+    if not has_turn(dial):
         raise NoDial("no turn shares just the points of this dial")
     # What m and w, as stones, have in common on the left weighs m, and is w times something but for multiples of m.
     # So each column of the table of its turn is a multiple of w but for multiples of m.
     return turn_of(common((2 * m, 0, 0, 0), (0, 2 * w[0], 2 * w[1], 2 * w[2]))[0])
+
+
+def has_turn(dial):
+    w = dial[0]
+    m = dial[1]
+    return m % 2 == 1 and row_times(w, w) % m == 0 and divisor(w + (m,)) == 1
